@@ -1,0 +1,1 @@
+"""Firingrules: rules that fire when tables change."""

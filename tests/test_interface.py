@@ -1,0 +1,65 @@
+"""The interface of the document: its names, where they are defined, and their arguments."""
+
+import importlib
+import inspect
+import unittest
+
+FUNCTIONS = {
+    'words': ['is_integer(thing)', 'is_name(thing)'],
+    'statements': ['is_statement(schema, thing)', 'hits(schema, statement, database)',
+                   'change(schema, table, database, changed)', 'single(schema)'],
+    'rules': ['is_rule(schema, thing)', 'holds(schema, rule, database, old, new)',
+              'statement_of(schema, rule, action, old, new)'],
+    'ahead': ['turned(rules, statement, database, hit)', 'changes(rules, statement, database)'],
+}
+CLASSES = {
+    'schemas': ['Schema(size, tables)'],
+    'ruleset': ['Rules(schema, rules, pairs=())'],
+    'errors': ['Wrong(place)', 'Twice(name)', 'BadTable(at)', 'BadRule(at)', 'BadPair(at)', 'Ring(members)',
+               'NoRule(name)', 'TooMany(limit)', 'Stopped(at)', 'NoSave(name)', 'NoEntry(at)'],
+}
+METHODS = {
+    'Schema': ['columns(self, name)', 'key_count(self, name)', 'is_row(self, name, thing)', 'rows(self, name)',
+               'is_content(self, name, thing)', 'is_database(self, thing)', 'databases(self, *, most=1000)'],
+    'Rules': ['ordered(self, pairs)', 'by_name(self)', 'competing(self)'],
+}
+SIGNS = {'Schema': ['__eq__', '__len__', '__contains__'],
+         'Rules': ['__eq__', '__len__', '__contains__', '__getitem__', '__add__', '__sub__']}
+
+
+def found(module, name):
+    """A thing of a file of the package."""
+    return getattr(importlib.import_module('firingrules.' + module), name)
+
+
+class InterfaceTest(unittest.TestCase):
+    def test_functions(self):
+        for module, functions in FUNCTIONS.items():
+            for line in functions:
+                name = line.split('(')[0]
+                thing = found(module, name)
+                self.assertTrue(inspect.isfunction(thing))
+                self.assertEqual(thing.__module__, 'firingrules.' + module)
+                self.assertEqual(name + str(inspect.signature(thing)), line)
+
+    def test_classes(self):
+        for module, classes in CLASSES.items():
+            for line in classes:
+                name = line.split('(')[0]
+                thing = found(module, name)
+                self.assertTrue(inspect.isclass(thing))
+                self.assertEqual(thing.__module__, 'firingrules.' + module)
+                self.assertEqual(name + str(inspect.signature(thing)), line)
+
+    def test_methods(self):
+        for name, methods in METHODS.items():
+            own = vars(found('schemas' if name == 'Schema' else 'ruleset', name))
+            for line in methods:
+                method = own[line.split('(')[0]]
+                self.assertEqual(line.split('(')[0] + str(inspect.signature(method)), line)
+            for sign in SIGNS[name]:
+                self.assertIn(sign, own)
+
+
+if __name__ == '__main__':
+    unittest.main()
