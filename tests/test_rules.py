@@ -100,6 +100,8 @@ class IsRuleTest(unittest.TestCase):
     def test_every_action_and_what_is_nearly_one(self):
         schema = small()
         others = [action for kind in kinds() for action in actions_of(*kind)[::17]]
+        others += [('skip',), ('turn', 'w', 0)]
+        others += [('turn', column, term) for column in ('k', 'v') for term in terms_of('update', 'row')]
         for event, when, level in kinds():
             right = actions_of(event, when, level)
             known = {repr(action) for action in right}
