@@ -1,10 +1,10 @@
 """Sets of rules with an order."""
 
-from firingrules.errors import BadPair, BadRule, NoRule, Ring, TooMany, Twice, Wrong
+from firingrules.errors import BadPair, BadRule, NoRule, Ring, TooMany, Wrong
 from firingrules.orderings import closed, least_ring
 from firingrules.rules import is_rule
 from firingrules.schemas import Schema
-from firingrules.words import is_name
+from firingrules.words import check_different, is_name
 
 MOST_RULES = 12
 MOST_PAIRS = 200
@@ -15,10 +15,7 @@ def check_rules(schema, rules):
     for at, rule in enumerate(rules):
         if not is_rule(schema, rule):
             raise BadRule(at)
-    names = [rule[0] for rule in rules]
-    for at, name in enumerate(names):
-        if name in names[:at]:
-            raise Twice(name)
+    check_different([rule[0] for rule in rules])
 
 
 def compete(one, other):

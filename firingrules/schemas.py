@@ -1,7 +1,7 @@
 """Schemas: how many values there are, and which tables with which columns."""
 
-from firingrules.errors import BadTable, TooMany, Twice, Wrong
-from firingrules.words import is_integer, is_name
+from firingrules.errors import BadTable, TooMany, Wrong
+from firingrules.words import check_different, is_integer, is_name
 
 
 def describes_table(thing):
@@ -21,10 +21,7 @@ def check_tables(tables):
     for at, table in enumerate(tables):
         if not describes_table(table):
             raise BadTable(at)
-    names = [table[0] for table in tables]
-    for at, name in enumerate(names):
-        if name in names[:at]:
-            raise Twice(name)
+    check_different([table[0] for table in tables])
 
 
 def all_tuples(size, length):

@@ -1,5 +1,7 @@
 """What counts as an integer and as a name."""
 
+from firingrules.errors import Twice
+
 LETTERS = "abcdefghijklmnopqrstuvwxyz"
 
 
@@ -13,3 +15,10 @@ def is_name(thing):
     if not isinstance(thing, str) or not 1 <= len(thing) <= 8:
         return False
     return all([letter in LETTERS for letter in thing])
+
+
+def check_different(names):
+    """Raise Twice for the first name that stands earlier in a list, too."""
+    for at, name in enumerate(names):
+        if name in names[:at]:
+            raise Twice(name)
