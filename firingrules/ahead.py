@@ -1,11 +1,13 @@
 """What comes of the hits of a statement by the rules that are ahead of it."""
 
 from firingrules.errors import TooMany
+from firingrules.places import Place, Tour, Turn, keep, weigh
 from firingrules.rules import holds
 from firingrules.statements import change, event_of, hits
 from firingrules.terms import concerns, put, value_of
 
 MOST_CHOICES = 4000
+REFUSED = ("refused", None)
 
 
 def touches(rule, statement):
@@ -24,88 +26,61 @@ def is_refused_ahead(rules, statement, database):
 
 
 def move(schema, rule, database, old, new):
-    """Return what comes of the new row by the turn of a rule, as turned tells it."""
+    """Return whether a rule fires in its turn, and what comes of the new row, as turned tells it."""
     columns = schema.columns(rule[1])
     if not concerns(columns, rule[3], old, new) or not holds(schema, rule, database, old, new):
-        return ("done", new)
+        return (False, ("done", new))
     row = new
     for action in rule[7]:
         if action[0] == "skip":
-            return ("passed", None)
+            return (True, ("passed", None))
         if action[0] == "refuse":
-            return ("refused", None)
+            return (True, REFUSED)
         row = put(columns, row, ((action[1], value_of(columns, action[2], old, row)),))
-    return ("done", row)
+    return (True, ("done", row))
 
 
-def all_moves(schema, standing, database, hit):
-    """Return, for each row that may come of a hit, the list of what each rule makes of it."""
+class Turnings:
+    """The turns of the rules at a place ahead of a row; their states are the new row."""
+
+    def __init__(self, rules, statement, database, old, worth):
+        self.schema = rules.schema
+        self.lined = rules.standing(statement[1], event_of(statement), "ahead", "row")
+        self.database = database
+        self.old = old
+        self.worth = worth
+
+    def turn(self, at, state):
+        """Return what may come of the turn of the rule at an index, in a state."""
+        fires, (word, row) = move(self.schema, self.lined[at], self.database, self.old, state)
+        turn = Turn(fires)
+        way = (weigh(self.worth, fires), ())
+        if word == "done":
+            turn.goes[row] = way
+        else:
+            turn.stops[word] = way
+        return turn
+
+
+def tour_ahead(rules, statement, database, hit, worth):
+    """Return the Tour through the place ahead of a hit."""
     old, new = hit
-    moves = {}
-    todo = [new]
-    while len(todo) > 0:
-        row = todo.pop()
-        if row not in moves:
-            moves[row] = [move(schema, rule, database, old, row) for rule in standing]
-            todo.extend([after for word, after in moves[row] if word == "done"])
-    return moves
+    source = Turnings(rules, statement, database, old, worth)
+    return Tour(Place(rules, source.lined, source), {new: 0})
 
 
-def acting(moves, standing):
-    """Return the indexes of the rules that do something to one of the rows."""
-    return [at for at in range(len(standing)) if any([moves[row][at] != ("done", row) for row in moves])]
-
-
-def walk(moves, needs, start):
-    """Return the ascending list of all that comes of a row when rules have one turn each.
-
-    needs has the indexes of these rules, and for each the set of those that go
-    ahead of it. A set of indexes is an integer in which their bits are 1.
-    """
-    full = sum([1 << at for at in needs])
-    reached = {0: {start: True}}
-    found = {}
-    # A turn makes the set of those that have had theirs a greater integer.
-    for had in range(full):
-        if had not in reached:
-            continue
-        free = [at for at in needs if had & (1 << at) == 0 and had & needs[at] == needs[at]]
-        for new in list(reached[had]):
-            for at in free:
-                word, row = moves[new][at]
-                if word == "done":
-                    reached.setdefault(had | (1 << at), {})[row] = True
-                else:
-                    found[(word, None)] = True
-    for new in reached.get(full, {}):
-        found[("done", new)] = True
-    return sorted(found)
+def outcomes_of(tour):
+    """Return all that can come of a hit, as turned tells it, each with its weight."""
+    ends, stops = tour.last_states(), tour.all_stops()
+    found = {("done", new): ends[new] for new in ends}
+    for word in stops:
+        found[(word, None)] = stops[word][0]
+    return found
 
 
 def turned(rules, statement, database, hit):
     """Return the ascending list of all that can come of a hit by the rules ahead of rows."""
-    standing = rules.standing(statement[1], event_of(statement), "ahead", "row")
-    moves = all_moves(rules.schema, standing, database, hit)
-    # Rules that never act may be left out: the others keep their order, as it is closed.
-    places = acting(moves, standing)
-    needs = {}
-    for at in places:
-        earlier = [one for one in places if rules.goes_ahead(standing[one][0], standing[at][0])]
-        needs[at] = sum([1 << one for one in earlier])
-    return walk(moves, needs, hit[1])
-
-
-def all_turned(rules, statement, database, found):
-    """Return the list of what turned returns for each hit; raise TooMany for too many choices."""
-    choices = []
-    many = 1
-    for hit in found:
-        choices.append(turned(rules, statement, database, hit))
-        many *= len(choices[-1])
-        # Nothing makes the product less again, so the other hits need not be turned.
-        if many > MOST_CHOICES:
-            raise TooMany(MOST_CHOICES)
-    return choices
+    return sorted(outcomes_of(tour_ahead(rules, statement, database, hit, (0, 0))))
 
 
 def is_change(schema, statement, database, old, new):
@@ -120,34 +95,106 @@ def is_change(schema, statement, database, old, new):
     return not any([row[:count] == new[:count] for row in content])
 
 
-def parts_of(schema, statement, database, old, outcomes):
-    """Return the different parts, of one hit or none, that outcomes of a hit give changed."""
-    parts = {}
-    for word, new in outcomes:
-        if word == "done" and is_change(schema, statement, database, old, new):
-            parts[((old, new),)] = True
-        elif word != "refused":
-            parts[()] = True
-    return list(parts)
+class Hits:
+    """The hits of a statement, and all ways through the places ahead of them.
+
+    worth tells what turns and firings weigh, as in weigh.
+    """
+
+    def __init__(self, rules, statement, database, worth):
+        self.schema = rules.schema
+        self.statement = statement
+        self.database = database
+        self.hits = hits(rules.schema, statement, database)
+        self.tours = []
+        self.outcomes = []
+        many = 1
+        for hit in self.hits:
+            tour = tour_ahead(rules, statement, database, hit, worth)
+            self.tours.append(tour)
+            self.outcomes.append(outcomes_of(tour))
+            many *= len(self.outcomes[-1])
+            # Nothing makes the product less again, so the other hits need not be turned.
+            if many > MOST_CHOICES:
+                raise TooMany(MOST_CHOICES)
+
+    def parts(self, at):
+        """Return the tuples (part of changed, outcome, weight) that a hit may give, without refusals."""
+        outcomes = self.outcomes[at]
+        old = self.hits[at][0]
+        found = []
+        for word, new in outcomes:
+            if word == "done" and is_change(self.schema, self.statement, self.database, old, new):
+                found.append((((old, new),), (word, new), outcomes[(word, new)]))
+            elif word != "refused":
+                found.append(((), (word, new), outcomes[(word, new)]))
+        return found
+
+    def alternatives(self):
+        """Return, for all that no rule refuses, the weight and the outcomes of each changed."""
+        found = {(): (0, ())}
+        for at in range(len(self.hits)):
+            more = {}
+            parts = self.parts(at)
+            for changed in found:
+                for part, outcome, weight in parts:
+                    keep(more, changed + part, found[changed][0] + weight, found[changed][1] + (outcome,))
+            found = more
+        return found
+
+    def behind(self, changed):
+        """Return the database behind the changes, or None if keys forbid them."""
+        return change(self.schema, self.statement[1], self.database, changed)
+
+    def come(self):
+        """Return the indexes of the hits to whose places runs come."""
+        for at in range(len(self.hits)):
+            if len(self.parts(at)) == 0:
+                return list(range(at + 1))
+        return list(range(len(self.hits)))
+
+    def refusals(self):
+        """Return, for each hit at which a rule may refuse, the weight and the outcomes up to it."""
+        found = {}
+        weight, outcomes = 0, ()
+        for at in self.come():
+            if REFUSED in self.outcomes[at]:
+                found[at] = (weight + self.outcomes[at][REFUSED], outcomes + (REFUSED,))
+            best = {}
+            for _, outcome, more in self.parts(at):
+                keep(best, True, more, outcome)
+            if True in best:
+                weight, outcomes = weight + best[True][0], outcomes + (best[True][1],)
+        return found
+
+    def fired_ahead(self):
+        """Return the list of the names of the rules that fire ahead of hits."""
+        found = []
+        for at in self.come():
+            place = self.tours[at].place
+            moments = self.tours[at].some_moments()
+            found.extend([place.names[one] for _, row, one in moments if place.turn(one, row).fires])
+        return found
+
+    def way(self, outcomes):
+        """Return the list of the turns by which the first hits have these outcomes."""
+        told = []
+        for tour, (word, new) in zip(self.tours, outcomes):
+            if word == "done":
+                _, more = tour.way_to_end(new)
+            else:
+                _, moment = tour.all_stops()[word]
+                _, more = tour.way_to_stop(moment, word)
+            told.extend(more)
+        return told
 
 
 def changes(rules, statement, database):
     """Return the list of all tuples (changed, database) that can come of a statement."""
     if is_refused_ahead(rules, statement, database):
         return [(None, None)]
-    schema = rules.schema
-    found = hits(schema, statement, database)
-    choices = all_turned(rules, statement, database, found)
-    refused = any([("refused", None) in outcomes for outcomes in choices])
-    all_changed = [()]
-    for hit, outcomes in zip(found, choices):
-        parts = parts_of(schema, statement, database, hit[0], outcomes)
-        all_changed = [changed + part for changed in all_changed for part in parts]
-    told = []
-    for changed in sorted(all_changed):
-        behind = change(schema, statement[1], database, changed)
-        if behind is None:
-            refused = True
-        else:
-            told.append((changed, behind))
-    return [(None, None)] + told if refused else told
+    found = Hits(rules, statement, database, (0, 0))
+    told = [(changed, found.behind(changed)) for changed in sorted(found.alternatives())]
+    kept = [(changed, behind) for changed, behind in told if behind is not None]
+    refused = len(found.refusals()) > 0 or len(kept) < len(told)
+    return [(None, None)] + kept if refused else kept

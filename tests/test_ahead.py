@@ -1,13 +1,12 @@
 """[40], [9], [3]: what comes of hits by the rules that are ahead."""
 
 import itertools
-import random
 import unittest
 
 from firingrules.ahead import changes, turned
 from firingrules.ruleset import Rules
-from firingrules.schemas import Schema
 from tests import oracle
+from tests.chance import Chance
 from tests.support import large, small, told
 
 REFUSE = (('refuse',),)
@@ -384,87 +383,6 @@ class TooManyTest(unittest.TestCase):
         database = self.rows(64)
         (changed, behind), = changes(rules, ('delete', 'b', ()), database)
         self.assertEqual([len(changed), behind], [48, ((), database[1][:16], ())])
-
-
-class Chance:
-    """Rules, statements and databases, one after another from a seed."""
-
-    def __init__(self, seed):
-        self.random = random.Random(seed)
-        self.schema = Schema(3, [('t', ('k', 'v'), 1), ('u', ('a', 'b', 'c'), self.random.randint(1, 3))])
-
-    def term(self, columns, words):
-        """A term."""
-        if words and self.random.random() < 0.5:
-            return (self.random.choice(words), self.random.choice(columns))
-        return self.random.randrange(3)
-
-    def where(self, table, columns, words, least=0):
-        """Pairs of columns of a table and terms."""
-        own = self.schema.columns(table)
-        many = self.random.randint(least, len(own))
-        picked = self.random.sample(own, many)
-        return tuple([(column, self.term(columns, words)) for column in own if column in picked])
-
-    def test(self, columns, words):
-        """A test."""
-        word = self.random.choice(['same', 'same', 'other', 'some', 'no'])
-        if word in ('same', 'other'):
-            return (word, self.term(columns, words), self.term(columns, words))
-        table = self.random.choice(['t', 'u'])
-        return (word, table, self.where(table, columns, words))
-
-    def rule(self, name, table, event):
-        """A rule ahead of a row, or now and then one ahead of the statement."""
-        own = self.schema.columns(table)
-        columns = tuple([c for c in own if self.random.random() < 0.3]) if event == 'update' else ()
-        if self.random.random() < 0.1:
-            tests = tuple([self.test(own, []) for _ in range(self.random.randint(1, 2))])
-            return (name, table, event, columns, 'ahead', 'statement', tests, REFUSE)
-        words = {'insert': ['new'], 'delete': ['old'], 'update': ['old', 'new']}[event]
-        tests = tuple([self.test(own, words) for _ in range(self.random.choice([0, 1, 1, 2]))])
-        actions = []
-        for _ in range(self.random.randint(1, 3)):
-            kind = self.random.choice(['turn', 'turn', 'turn', 'skip', 'refuse'])
-            if kind != 'turn':
-                actions.append((kind,))
-            elif event != 'delete':
-                actions.append(('turn', self.random.choice(own), self.term(own, words)))
-        return (name, table, event, columns, 'ahead', 'row', tests, tuple(actions) or SKIP)
-
-    def database(self):
-        """A database with few rows."""
-        parts = []
-        for name in self.schema.names:
-            rows = {}
-            for row in self.random.sample(self.schema.rows(name), self.random.randint(0, 4)):
-                rows[row[:self.schema.key_count(name)]] = row
-            parts.append(tuple(sorted(rows.values())))
-        return tuple(parts)
-
-    def statement(self, table, event):
-        """A statement of this table and event."""
-        if event == 'insert':
-            return (self.random.choice(['insert', 'offer']), table, self.random.choice(self.schema.rows(table)))
-        where = self.where(table, (), [])
-        if self.random.random() < 0.5:
-            where = ()
-        if event == 'delete':
-            return ('delete', table, where)
-        return ('update', table, where, self.where(table, (), [], 1))
-
-    def pairs(self, names):
-        """Pairs of an order of some names."""
-        line = self.random.sample(names, len(names))
-        return [pair for pair in itertools.combinations(line, 2) if self.random.random() < 0.25]
-
-    def case(self):
-        """Rules, a statement and a database."""
-        table, event = self.random.choice(['t', 'u']), self.random.choice(['insert', 'delete', 'update', 'update'])
-        given = [self.rule('abcdef'[at], table, event) for at in range(self.random.randint(0, 5))]
-        names = [rule[0] for rule in given if rule[5] == 'row']
-        rules = Rules(self.schema, given, self.pairs(names))
-        return rules, self.statement(table, event), self.database()
 
 
 class ByTryingAllOrdersTest(unittest.TestCase):

@@ -5,22 +5,26 @@ This is a narrow reading: it allows what the package uses, and no more.
 
 import ast
 import builtins
+import functools
 import os
 import re
 import unittest
 
+from firingrules import errors
+
 PACKAGE = os.path.join(os.path.dirname(os.path.dirname(os.path.abspath(__file__))), 'firingrules')
 BUILTINS = set('''len range enumerate zip min max sum abs sorted reversed int str bool list tuple dict set isinstance
-ord repr any all divmod ValueError TypeError KeyError IndexError LookupError NotImplemented property'''.split())
+ord repr any all divmod ValueError TypeError KeyError IndexError LookupError NotImplemented property super'''.split())
 METHODS = set('''append clear copy count endswith extend find get index insert isalnum isalpha isdigit islower isspace
 isupper items join keys ljust lower lstrip partition pop remove replace reverse rfind rjust rpartition rsplit rstrip
 setdefault split splitlines startswith strip update upper values zfill bit_length'''.split())
 SIGNS = set('''__init__ __eq__ __repr__ __str__ __len__ __enter__ __exit__ __call__ __iter__ __contains__ __getitem__
 __add__ __sub__'''.split())
-BARRED = set('''register mro elements open input law version_info with_traceback add_note type typing enum Enum Flag
+NAMES = set('register mro elements open input law version_info with_traceback add_note'.split())
+BARRED = set('''register mro elements input law version_info with_traceback add_note type typing enum Enum Flag
 Generic Protocol ABC namedtuple NamedTuple TypedDict dataclass overload contextmanager _wall Meta'''.split())
 NODES = (ast.Global, ast.Nonlocal, ast.AsyncFor, ast.AsyncFunctionDef, ast.AsyncWith, ast.Await, ast.Yield, ast.With,
-         ast.YieldFrom, ast.Try, ast.GeneratorExp, ast.Lambda, ast.Set, ast.Starred, ast.Div, ast.Pow, ast.MatMult,
+         ast.YieldFrom, ast.GeneratorExp, ast.Lambda, ast.Set, ast.Starred, ast.Div, ast.Pow, ast.MatMult,
          ast.JoinedStr, ast.NamedExpr, ast.Import, ast.Delete, ast.Mod, ast.Match, ast.AnnAssign)
 
 
@@ -38,6 +42,7 @@ def texts():
     return found
 
 
+@functools.lru_cache(None)
 def trees():
     """Tuples of the name and the tree of each file, each part of which knows the one above."""
     found = []
@@ -107,7 +112,9 @@ class LanguageTest(unittest.TestCase):
         for name, tree in trees():
             needs[name[:-3]] = []
             for node in ast.walk(tree):
-                if isinstance(node, ast.ImportFrom):
+                if isinstance(node, ast.ImportFrom) and node.module == 'heapq':
+                    self.assertLessEqual({one.name for one in node.names}, {'heappush', 'heappop'})
+                elif isinstance(node, ast.ImportFrom):
                     self.assertIn(node, tree.body)
                     self.assertEqual(node.level, 0)
                     package, module = node.module.split('.')
@@ -120,6 +127,7 @@ class LanguageTest(unittest.TestCase):
     def check_defined(self, module, names):
         tree = dict(trees())[module + '.py']
         defined = [node.name for node in tree.body if isinstance(node, (ast.FunctionDef, ast.ClassDef))]
+        defined += [node.targets[0].id for node in tree.body if isinstance(node, ast.Assign)]
         for name in names:
             self.assertIn(name, defined, module)
 
@@ -175,13 +183,13 @@ class LanguageTest(unittest.TestCase):
             top = imported + classes + functions
             self.assertEqual(len(set(top)), len(top), name)
             for bound in bound_names(tree):
-                self.assertFalse(bound in vars(builtins), (name, bound))
+                self.assertFalse(bound in vars(builtins) or bound in NAMES, (name, bound))
                 self.assertNotIn(bound, imported, name)
                 if bound.startswith('__'):
                     self.assertIn(bound, SIGNS, name)
             for node in ast.walk(tree):
                 if isinstance(node, ast.arg):
-                    self.assertNotIn(node.arg, classes + functions, name)
+                    self.assertNotIn(node.arg, classes, name)
                 if isinstance(node, ast.Name) and node.id in vars(builtins):
                     self.assertIn(node.id, BUILTINS, (name, node.lineno))
                 if isinstance(node, ast.Name) and isinstance(node.ctx, ast.Load):
@@ -198,9 +206,28 @@ class LanguageTest(unittest.TestCase):
             read += [(name, node.attr) for node in ast.walk(tree) if isinstance(node, ast.Attribute)]
         for name, attribute in read:
             self.assertIn(attribute, own | METHODS, name)
-            self.assertFalse(attribute.startswith('__'), name)
+            self.assertTrue(not attribute.startswith('__') or attribute == '__init__', name)
         for kind in (str, int, list, dict, set, bytes, tuple):
             self.assertEqual({one for one in own if one in dir(kind)} - SIGNS, set())
+
+    def test_methods_are_no_attributes_elsewhere(self):
+        methods, attributes = set(), set()
+        for _, tree in trees():
+            methods |= {node.name for node in ast.walk(tree) if isinstance(node, ast.FunctionDef)
+                        and isinstance(node.above, ast.ClassDef)}
+            attributes |= {node.attr for node in ast.walk(tree) if isinstance(node, ast.Attribute)
+                           and isinstance(node.ctx, ast.Store)}
+        self.assertEqual(methods & attributes, set())
+
+    def test_only_own_errors_are_caught(self):
+        for name, tree in trees():
+            for node in ast.walk(tree):
+                if isinstance(node, ast.Try):
+                    self.assertEqual(node.finalbody, [], name)
+                    for handler in node.handlers:
+                        self.assertIn(handler.type.id, vars(errors), name)
+                if isinstance(node, ast.Raise):
+                    self.assertTrue(isinstance(node.exc, ast.Call) and node.cause is None, name)
 
     def test_decorators_and_classes(self):
         for name, tree in trees():

@@ -1,0 +1,46 @@
+"""Rules whose runs are long, or whose calls stand in one another many times."""
+
+from firingrules.ruleset import Rules
+from firingrules.schemas import Schema
+
+LETTERS = 'abcdefghijkl'
+ZEROS = (('a', 0), ('b', 0), ('c', 0))
+ONES = (('a', 1), ('b', 1), ('c', 1))
+
+
+def count_rule(bit):
+    """The rule that sets a bit of the counter when all lower ones are 1, and makes these 0."""
+    table, column = 'tuw'[bit // 3], 'cba'[bit % 3]
+    lower = 'cba'[:bit % 3]
+    own = sorted([(c, 1) for c in lower] + [(column, 0)])
+    sets = tuple(sorted([(c, 0) for c in lower] + [(column, 1)]))
+    if bit < 3:
+        tests = [('same', ('new', c), value) for c, value in own]
+        actions = [('update', 't', (), sets)]
+    else:
+        tests = [('some', name, ONES) for name in 'tuw'[:bit // 3]] + [('some', table, tuple(own))]
+        actions = [('update', table, (), sets)]
+        actions += [('update', name, (), ZEROS) for name in ('u', 't')[2 - bit // 3:]]
+    return (LETTERS[bit], 't', 'update', (), 'behind', 'row', tuple(tests), tuple(actions))
+
+
+def counter(bits, pairs=()):
+    """Rules that count up in a number of bits, one call within the other; the first statement begins it."""
+    schema = Schema(2, [(name, ('a', 'b', 'c'), 1) for name in 'tuw'])
+    return Rules(schema, [count_rule(bit) for bit in range(bits)], pairs)
+
+
+def counting(number):
+    """The database of a counter with a number."""
+    digits = [number >> at & 1 for at in range(9)]
+    return tuple([((digits[3 * at + 2], digits[3 * at + 1], digits[3 * at]),) for at in range(3)])
+
+
+FIRST = ('update', 't', (), (('c', 1),))
+
+
+def wide(many):
+    """A delete of 64 rows, behind each of which so many rules have their turns."""
+    schema = Schema(4, [('b', ('x', 'y', 'z'), 3), ('c', ('q',), 1)])
+    rules = [(LETTERS[at], 'b', 'delete', (), 'behind', 'row', (), (('offer', 'c', (('old', 'z'),)),)) for at in range(many)]
+    return Rules(schema, rules)
