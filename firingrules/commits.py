@@ -79,11 +79,12 @@ class Step:
     def look(self, rule, old, new, states, table):
         """Return the databases behind a look of the rule at a tuple of the difference."""
         found = {}
+        turn = self.outcome
         for state in states:
             behind = {state: states[state]}
             if holds(self.rules.schema, rule, state, old, new):
-                self.outcome.fires = True
-                behind = do_actions(self.rules.schema, rule, old, new, self.outcome, behind, table)
+                turn.fires = True
+                behind = do_actions(self.rules.schema, rule, old, new, turn, behind, table)
             for end in behind:
                 keep(found, end, behind[end][0], behind[end][1])
         return found

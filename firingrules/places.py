@@ -90,9 +90,10 @@ class Tour:
         self.quiet = {}
         # A turn makes the set a greater integer.
         for had in range(self.full):
-            rest = self.rest(had)
-            for state in list(self.layers.get(had, {})):
-                self.go_on(had, state, rest)
+            if had in self.layers:
+                rest = self.rest(had)
+                for state in list(self.layers[had]):
+                    self.go_on(had, state, rest)
 
     def bits(self, places):
         """Return the set of those of the indexes whose rules act."""

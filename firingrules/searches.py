@@ -129,7 +129,8 @@ class Search:
         weights = self.table[call]
         ends = ascending(weights)
         best = sorted([(-weights[end], at) for at, end in enumerate(ends)])
-        return tuple([self.turns_of([(call, ends[at])]) for _, at in best[:2]])
+        lists = Lists(self.rules, self.table, self.worth)
+        return tuple([lists.turn_list([(call, ends[at])]) for _, at in best[:2]])
 
     def way_of_ring(self, ring):
         """Return the way by which the calls of a ring begin, within the first one."""
@@ -161,7 +162,7 @@ class Spread:
 
     def spread_to(self, calls):
         """Find all calls to which runs from these calls come."""
-        todo = [call for call in calls if call not in self.table]
+        todo = list(calls)
         while len(todo) > 0:
             call = todo.pop()
             if call not in self.walks:

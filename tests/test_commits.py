@@ -276,6 +276,16 @@ class MostTest(unittest.TestCase):
         self.assertEqual(decide_commits(rules, [(EMPTY, ONE)])[0], 'endless')
         self.check(rules, [(EMPTY, ONE)], calls, states)
 
+    def test_more_states_than_calls_of_endless_commits(self):
+        go = made('go', 'delete', [('delete', 'u', ())], table='u', when='behind', level='statement', condition=(('no', 'u', ()),))
+        stop = made('stop', 'delete', [offer(0)], table='u', when='behind', level='statement')
+        still = [made(name, condition=(('same', 0, 1),)) for name in 'bcdef']
+        rules = late(made('a', actions=[('delete', 'u', ())]), go, stop, *still)
+        calls, states = decided(rules, [(EMPTY, ONE)])[1]
+        self.assertEqual((calls, states), (3, 7))
+        self.assertEqual(decide_commits(rules, [(EMPTY, ONE)])[0], 'endless')
+        self.check(rules, [(EMPTY, ONE)], calls, states)
+
     def test_the_default(self):
         schema = Schema(4, [('t', ('k', 'v', 'x'), 3)])
         many = schema.rows('t')

@@ -10,6 +10,7 @@ from tests import naive
 from tests.chance import Chance
 from tests.naive import NaiveCommit, commit_outcome, step_outcome
 from tests.support import large, small, told
+from tests.worlds import idle, long_runs
 
 REFUSE = (('refuse',),)
 EMPTY = ((), ())
@@ -287,6 +288,20 @@ class CommitTest(unittest.TestCase):
         for limit in (4, 5, 4000):
             self.assertEqual(commit(rules, EMPTY, now, limit=limit), (now[0], ((0,), (1,))))
         self.assertEqual(commit(rules, EMPTY, now), (now[0], ((0,), (1,))))
+
+    def test_exactly_400_turns(self):
+        # The turn of the late rule, and 19 times that it looks at a row, three statements with seven turns.
+        def given(*more):
+            rules, call = long_runs(19, 1, 7)
+            first = rules.rules[0][:4] + ('late',) + rules.rules[0][5:]
+            return Rules(rules.schema, [first, *rules.rules[1:], *more]), call[1]
+        rules, beginning = given()
+        self.assertEqual(commit(rules, beginning, EMPTY), EMPTY)
+        self.assertEqual(commit(rules, beginning, EMPTY, limit=400), EMPTY)
+        self.assertEqual(told(commit, rules, beginning, EMPTY, limit=399), ('TooMany', {'limit': 399}))
+        rules, beginning = given(idle('z', 'b', 'delete', when='late'))
+        self.assertEqual(told(commit, rules, beginning, EMPTY), ('TooMany', {'limit': 400}))
+        self.assertEqual(commit(rules, beginning, EMPTY, limit=401), EMPTY)
 
     def test_the_limit_of_400(self):
         schema = Schema(4, [('t', ('k', 'v', 'x'), 3), ('u', ('k', 'v', 'x'), 3)])

@@ -314,6 +314,15 @@ class LeastTest(unittest.TestCase):
         wide = Rules(Schema(4, [('t', ('k', 'v', 'x'), 3)]), [])
         self.assertEqual(told(least, wide), ('TooMany', {'limit': 1000}))
 
+    def test_more_orders_than_most(self):
+        # Two orders of twelve rules matter, but runs are barred by pairs with the idle ones, too.
+        rules = [idle(name, level='statement') for name in 'abcdefgh'] + [marks('k', 0), marks('l', 1)]
+        line = [(NEW, EMPTY)]
+        pairs, rows = least(Rules(small(), rules), line)
+        self.assertEqual(pairs, [('k', 'l')])
+        self.assertGreater(len(rows), 20)
+        self.assertEqual(told(least, Rules(small(), rules), line, most=len(rows) - 1), ('TooMany', {'limit': len(rows) - 1}))
+
     def test_a_later_order_that_is_due_for_more(self):
         # The present order is endless from the first start; the order behind it looks at all of them.
         loop = loops()
@@ -403,6 +412,8 @@ class IsLeastTest(unittest.TestCase):
         self.check(self.put(0, [('a', 'b'), ('b', 'c')]))
         self.check(self.put(0, [None]))
         self.check(self.put(0, [('a', 'b', 'c')]))
+        for pair in [(1, 2), ([], []), ('a', []), ('a', None), ('a', {}), (True, False), ('a',), ()]:
+            self.check(self.put(0, [pair]))
 
     def test_an_order_that_does_not_contain_the_present_one(self):
         ordered = self.rules.ordered([('b', 'a')])
@@ -423,6 +434,11 @@ class IsLeastTest(unittest.TestCase):
                           (('insert', 't', (1, 1)), database, one, other), (list(statement), database, one, other),
                           (('insert', 't', (0, True)), database, one, other), (('insert', 't', (False, 1)), database, one, other),
                           (statement, list(database), one, other), (None, None, one, other), (), 0]:
+                with self.subTest(thing=thing):
+                    self.check(self.put(at, witness=thing), False)
+            if database != EMPTY:
+                self.check(self.put(at, witness=(statement, ((), ((True,),)), one, other)), False)
+            for thing in [(statement, database, 0, other), (statement, database, one, {0: 'a'}), (statement, database, None, None)]:
                 with self.subTest(thing=thing):
                     self.check(self.put(at, witness=thing), False)
 

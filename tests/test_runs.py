@@ -8,7 +8,7 @@ from firingrules.schemas import Schema
 from tests import naive
 from tests.chance import Chance
 from tests.support import small, told
-from tests.worlds import FIRST, counter, counting, wide
+from tests.worlds import FIRST, counter, counting, idle, long_runs, wide
 
 REFUSE = (('refuse',),)
 NEW = ('insert', 't', (0, 1))
@@ -117,6 +117,18 @@ class RunTest(unittest.TestCase):
             self.assertEqual(told(run, rules, FIRST, counting(number))[0], found[many > 400])
             self.assertEqual(told(trace, rules, FIRST, counting(number))[0], found[many > 400])
         self.assertEqual(found, {True: 'TooMany', False: 'returned'})
+
+    def test_exactly_400_turns(self):
+        rules, call = long_runs(8, 2, 8)
+        self.assertEqual(run(rules, *call), ((), ()))
+        self.assertEqual(len([step for step in trace(rules, *call) if step[0] == 'turn']), 400)
+        rules, call = long_runs(8, 2, 8, [idle('z', 'b', 'delete')])
+        for one in (run, trace):
+            self.assertEqual(told(one, rules, *call), ('TooMany', {'limit': 400}))
+            self.assertEqual(told(one, rules, *call, limit=401)[0], 'returned')
+        rules, call = long_runs(40, 4, 8)
+        self.assertEqual(run(rules, *call, limit=4000), ((), ()))
+        self.assertEqual(told(run, rules, *call, limit=3999), ('TooMany', {'limit': 3999}))
 
     def test_several_thousand_turns(self):
         rules = counter(9)

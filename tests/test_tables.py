@@ -14,7 +14,7 @@ from tests import naive
 from tests.chance import Chance
 from tests.spread import ascending, decided, start_order
 from tests.support import any_values, large, small, told
-from tests.worlds import FIRST, ONES, ZEROS, counter, counting, wide
+from tests.worlds import FIRST, ONES, ZEROS, counter, counting, long_runs, wide
 
 REFUSE = (('refuse',),)
 NEW = ('insert', 't', (0, 1))
@@ -300,6 +300,8 @@ class IsTableTest(unittest.TestCase):
             self.check(put(tuple(row[2])))
             self.check(put([list(end) if end else end for end in row[2]]), row[2] == [None])
             self.check(put(row[2] + [(((1, 1),), ((1,),))]))
+            for other in (None, 0, True, 'ends', {None: 0}, {end: 0 for end in row[2]}):
+                self.check(put(other))
             self.check(put([None] + row[2]))
             if len(row[2]) > 1:
                 self.check(put(row[2][::-1]))
@@ -342,6 +344,14 @@ class IsTableTest(unittest.TestCase):
         rules = Rules(small(), [COPY])
         self.assertIs(is_table(rules, [], table), False)
         self.assertIs(is_table(rules, [], decide(rules, [(NEW, small().empty)])[1]), True)
+
+    def test_calls_within_that_are_not_there(self):
+        # A run does not go on behind such a call, so the ends are right; but it has to stand there.
+        rules = Rules(small(), [COPY])
+        self.assertIs(is_table(rules, [], [(NEW, small().empty, [], 5)]), False)
+        either = Rules(small(), [COPY, made('no', level='row')])
+        self.assertIs(is_table(either, [], [(NEW, small().empty, [None], 5)]), False)
+        self.assertIs(is_table(either, [], decide(either, [(NEW, small().empty)])[1]), True)
 
     def test_by_chance(self):
         for seed in range(150):
@@ -486,6 +496,14 @@ class SizesTest(unittest.TestCase):
         many, turns = longest(rules, table, at)
         self.assertEqual((many, len(turns)), (254, 8 * 255))
         self.assertEqual(play(rules, FIRST, counting(0), turns), ('end', counting(255)))
+
+    def test_a_turn_list_of_4000_turns(self):
+        rules, call = long_runs(40, 4, 8)
+        table = decide(rules, [call])[1]
+        at = [row[:2] for row in table].index(call)
+        many, turns = longest(rules, table, at)
+        self.assertEqual((many, len(turns)), (160, 4000))
+        self.assertEqual(play(rules, *call, turns), ('end', ((), ())))
 
     def test_an_endless_run_that_is_deep(self):
         rules = counter(8)

@@ -10,6 +10,7 @@ from firingrules.schemas import Schema
 from firingrules.transactions import transact
 from tests.chance import Chance
 from tests.support import small, told
+from tests.worlds import idle, long_runs
 
 REFUSE = (('refuse',),)
 EMPTY = ((), ())
@@ -107,23 +108,29 @@ class ErrorsTest(unittest.TestCase):
         self.assertEqual(told(transact, both, EMPTY, [NEW, NEW, DELETE, back]), ('Endless', {}))
         self.assertEqual(told(transact, both, EMPTY, [NEW, DELETE, back], limit=1), ('TooMany', {'limit': 1}))
 
-    def idle(self, many, **more):
+    def idle_rules(self, many, **more):
         """Rules that never fire."""
         return [made('abcdefghijkl'[at], condition=(('same', 0, 1),), **more) for at in range(many)]
 
     def test_limit_for_each_statement(self):
-        ten = rules(*self.idle(10))
+        ten = rules(*self.idle_rules(10))
         self.assertEqual(transact(ten, EMPTY, [NEW, OTHER, DELETE, NEW], limit=10)[0], ['done'] * 5)
         self.assertEqual(told(transact, ten, EMPTY, [NEW, OTHER], limit=9), ('TooMany', {'limit': 9}))
         self.assertEqual(transact(ten, EMPTY, [DELETE], limit=1)[0], ['done'] * 2)
 
     def test_limit_for_the_commit(self):
-        late = rules(*self.idle(5, when='late'))
+        late = rules(*self.idle_rules(5, when='late'))
         self.assertEqual(transact(late, EMPTY, [NEW, OTHER], limit=5)[0], ['done'] * 3)
         self.assertEqual(told(transact, late, EMPTY, [NEW, OTHER], limit=4), ('TooMany', {'limit': 4}))
         self.assertEqual(transact(late, EMPTY, [NEW, DELETE], limit=1)[0], ['done'] * 3)
-        mixed = rules(*self.idle(5, when='late'), made('z', condition=(('same', 0, 1),)))
+        mixed = rules(*self.idle_rules(5, when='late'), made('z', condition=(('same', 0, 1),)))
         self.assertEqual(transact(mixed, EMPTY, [NEW, OTHER], limit=5)[0], ['done'] * 3)
+
+    def test_exactly_400_turns(self):
+        rules, call = long_runs(8, 2, 8)
+        self.assertEqual(transact(rules, call[1], [call[0]]), (['done', 'done'], ((), ())))
+        rules, call = long_runs(8, 2, 8, [idle('z', 'b', 'delete')])
+        self.assertEqual(told(transact, rules, call[1], [call[0]]), ('TooMany', {'limit': 400}))
 
     def test_the_limit_of_400(self):
         schema = Schema(4, [('b', ('x', 'y', 'z'), 3)])

@@ -44,3 +44,22 @@ def wide(many):
     schema = Schema(4, [('b', ('x', 'y', 'z'), 3), ('c', ('q',), 1)])
     rules = [(LETTERS[at], 'b', 'delete', (), 'behind', 'row', (), (('offer', 'c', (('old', 'z'),)),)) for at in range(many)]
     return Rules(schema, rules)
+
+
+def idle(name, table, event, level='statement', when='behind'):
+    """A rule that never fires."""
+    return (name, table, event, (), when, level, (('same', 0, 1),), (('refuse',),))
+
+
+def long_runs(rows, firing, still, more=()):
+    """Rules and a call of a delete of rows: each of some rules behind a row writes three times.
+
+    Behind each of these statements so many other rules have their turns. So there are
+    rows * (firing + 3 * firing * still) turns, and those of more rules behind the delete.
+    """
+    schema = Schema(4, [('b', ('x', 'y', 'z'), 3), ('c', ('q',), 1)])
+    write = ('delete', 'c', ())
+    given = [(LETTERS[at], 'b', 'delete', (), 'behind', 'row', (), (write,) * 3) for at in range(firing)]
+    given += [idle(LETTERS[firing + at], 'c', 'delete') for at in range(still)]
+    call = (('delete', 'b', ()), (tuple(schema.rows('b')[:rows]), ()))
+    return Rules(schema, given + list(more)), call
