@@ -3,11 +3,6 @@
 from firingrules.bodies import body
 
 
-def ascending(things):
-    """A list in ascending order, None first."""
-    return ([None] if None in things else []) + sorted([thing for thing in things if thing is not None])
-
-
 def start_order(start):
     """By the number of rows, the database, and then the statement."""
     return (sum([len(content) for content in start[1]]), start[1], start[0])

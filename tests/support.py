@@ -4,6 +4,8 @@ from firingrules.errors import RuleError, Wrong
 from firingrules.ruleset import Rules
 from firingrules.schemas import Schema
 
+REFUSE = (('refuse',),)
+
 
 def small():
     """The schema of the examples of the document."""
@@ -108,3 +110,25 @@ def all_tests(tables, terms):
     for table, columns, _ in tables:
         found += [(word, table, where) for word in ('some', 'no') for where in all_pairs(columns, terms)]
     return found
+
+
+def made(name, event='insert', actions=REFUSE, columns=(), when='behind', level='row', condition=(), table='t'):
+    """A rule."""
+    return (name, table, event, columns, when, level, condition, tuple(actions))
+
+
+def offer(value):
+    """An action that offers a row to u."""
+    return ('offer', 'u', (value,))
+
+
+def true_for_one(thing):
+    """A value with True and False in the place of 1 and 0."""
+    if isinstance(thing, (tuple, list)):
+        return thing.__class__([true_for_one(part) for part in thing])
+    return bool(thing) if thing in (0, 1) and isinstance(thing, int) else thing
+
+
+def ascending(things):
+    """A list in ascending order, None first."""
+    return ([None] if None in things else []) + sorted([thing for thing in things if thing is not None])

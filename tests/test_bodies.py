@@ -8,25 +8,9 @@ from firingrules.ruleset import Rules
 from firingrules.schemas import Schema
 from tests import naive
 from tests.chance import Chance
-from tests.support import small, told
+from tests.support import ascending, made, offer, small, told
 
-REFUSE = (('refuse',),)
 NEW = ('insert', 't', (0, 1))
-
-
-def made(name, event='insert', actions=REFUSE, columns=(), when='behind', level='row', condition=(), table='t'):
-    """A rule."""
-    return (name, table, event, columns, when, level, condition, tuple(actions))
-
-
-def offer(value):
-    """An action that offers a row to u."""
-    return ('offer', 'u', (value,))
-
-
-def ascending(things):
-    """A list in ascending order, None first."""
-    return ([None] if None in things else []) + sorted([thing for thing in things if thing is not None])
 
 
 def come(rules, statement, database, table=None, pairs=()):

@@ -7,26 +7,20 @@ from firingrules.late import commit_step, decide_commits, is_commits, play_commi
 from firingrules.ruleset import Rules
 from firingrules.schemas import Schema
 from firingrules.tables import decide, is_table
-from tests import naive
+from tests import naive, support
 from tests.chance import Chance
 from tests.naive import NaiveCommit, commit_outcome
-from tests.spread import Spread, ascending
-from tests.support import any_values, small, told
+from tests.spread import Spread
+from tests.support import any_values, ascending, offer, small, told, true_for_one
 
-REFUSE = (('refuse',),)
 EMPTY = ((), ())
 ONE = (((0, 0),), ())
 TWO = (((0, 0), (1, 0)), ())
 
 
-def made(name, event='insert', actions=REFUSE, columns=(), when='late', level='row', condition=(), table='t'):
-    """A rule."""
-    return (name, table, event, columns, when, level, condition, tuple(actions))
-
-
-def offer(value):
-    """An action that offers a row to u."""
-    return ('offer', 'u', (value,))
+def made(name, event='insert', *given, when='late', **more):
+    """A rule that is late, if nothing else is said."""
+    return support.made(name, event, *given, when=when, **more)
 
 
 def late(*rules):
@@ -419,13 +413,6 @@ class IsCommitsTest(unittest.TestCase):
         begun = list(self.begun)
         decide_commits(self.rules, begun)
         self.assertEqual(begun, kept[0])
-
-
-def true_for_one(thing):
-    """A value with True and False in the place of 1 and 0."""
-    if isinstance(thing, (tuple, list)):
-        return thing.__class__([true_for_one(part) for part in thing])
-    return bool(thing) if thing in (0, 1) and isinstance(thing, int) else thing
 
 
 if __name__ == '__main__':

@@ -12,8 +12,7 @@ from firingrules.statics import apart, levels
 from firingrules.tables import decide, firings, is_table, starts
 from firingrules.transactions import transact
 from tests.chance import Chance
-from tests.spread import ascending
-from tests.support import told
+from tests.support import ascending, told
 
 
 def two_tables():
@@ -25,7 +24,7 @@ class EndsTest(unittest.TestCase):
     def test_a_table_or_a_turn_list(self):
         """[5], and [7]: without a ring of rules that raise each other all runs end."""
         seen = {}
-        for seed in range(120):
+        for seed in range(60):
             chance = Chance(seed, two_tables())
             if seed % 2:
                 chance.part(2)

@@ -6,35 +6,24 @@ import unittest
 from firingrules.late import commit, commit_step, difference, play_commit, waiting
 from firingrules.ruleset import Rules
 from firingrules.schemas import Schema
-from tests import naive
+from tests import naive, support
 from tests.chance import Chance
 from tests.naive import NaiveCommit, commit_outcome, step_outcome
-from tests.support import large, small, told
+from tests.support import ascending, large, offer, small, told
 from tests.worlds import idle, long_runs
 
-REFUSE = (('refuse',),)
 EMPTY = ((), ())
 T = (((0, 0), (1, 0)), ())
 
 
-def made(name, event='insert', actions=REFUSE, columns=(), when='late', level='row', condition=(), table='t'):
-    """A rule."""
-    return (name, table, event, columns, when, level, condition, tuple(actions))
-
-
-def offer(value):
-    """An action that offers a row to u."""
-    return ('offer', 'u', (value,))
+def made(name, event='insert', *given, when='late', **more):
+    """A rule that is late, if nothing else is said."""
+    return support.made(name, event, *given, when=when, **more)
 
 
 def late(*rules):
     """Rules of the small schema."""
     return Rules(small(), rules)
-
-
-def ascending(things):
-    """A list in ascending order, None first."""
-    return ([None] if None in things else []) + sorted([thing for thing in things if thing is not None])
 
 
 class DifferenceTest(unittest.TestCase):

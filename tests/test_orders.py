@@ -13,17 +13,11 @@ from firingrules.tables import decide, starts
 from tests import naive
 from tests.chance import Chance
 from tests.spread import decided, start_order
-from tests.support import any_values, nearly, small, told
+from tests.support import REFUSE, any_values, made, nearly, small, told
 
-REFUSE = (('refuse',),)
 NEW = ('insert', 't', (0, 1))
 DELETE = ('delete', 't', ())
 EMPTY = ((), ())
-
-
-def made(name, event='insert', actions=REFUSE, columns=(), when='behind', level='row', condition=(), table='t'):
-    """A rule."""
-    return (name, table, event, columns, when, level, condition, tuple(actions))
 
 
 def marks(name, value, **more):
@@ -436,8 +430,8 @@ class IsLeastTest(unittest.TestCase):
                           (statement, list(database), one, other), (None, None, one, other), (), 0]:
                 with self.subTest(thing=thing):
                     self.check(self.put(at, witness=thing), False)
-            if database != EMPTY:
-                self.check(self.put(at, witness=(statement, ((), ((True,),)), one, other)), False)
+            self.check(self.put(at, witness=(NEW, ((), ((1,),)), one, other)), True)
+            self.check(self.put(at, witness=(NEW, ((), ((True,),)), one, other)), False)
             for thing in [(statement, database, 0, other), (statement, database, one, {0: 'a'}), (statement, database, None, None)]:
                 with self.subTest(thing=thing):
                     self.check(self.put(at, witness=thing), False)

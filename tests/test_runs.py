@@ -7,21 +7,10 @@ from firingrules.runs import play, run, trace
 from firingrules.schemas import Schema
 from tests import naive
 from tests.chance import Chance
-from tests.support import small, told
+from tests.support import made, offer, small, told
 from tests.worlds import FIRST, counter, counting, idle, long_runs, wide
 
-REFUSE = (('refuse',),)
 NEW = ('insert', 't', (0, 1))
-
-
-def made(name, event='insert', actions=REFUSE, columns=(), when='behind', level='row', condition=(), table='t'):
-    """A rule."""
-    return (name, table, event, columns, when, level, condition, tuple(actions))
-
-
-def offer(value):
-    """An action that offers a row to u."""
-    return ('offer', 'u', (value,))
 
 
 def loops():

@@ -6,29 +6,18 @@ import unittest
 
 from firingrules.bodies import body
 from firingrules.ruleset import Rules
-from firingrules.runs import play, trace
+from firingrules.runs import play
 from firingrules.schemas import Schema
 from firingrules.statements import single
 from firingrules.tables import decide, firings, is_table, longest, starts
 from tests import naive
 from tests.chance import Chance
-from tests.spread import ascending, decided, start_order
-from tests.support import any_values, large, small, told
+from tests.spread import decided, start_order
+from tests.support import any_values, ascending, large, made, offer, small, told, true_for_one
 from tests.worlds import FIRST, ONES, ZEROS, counter, counting, long_runs, wide
 
-REFUSE = (('refuse',),)
 NEW = ('insert', 't', (0, 1))
 DELETE = ('delete', 't', ())
-
-
-def made(name, event='insert', actions=REFUSE, columns=(), when='behind', level='row', condition=(), table='t'):
-    """A rule."""
-    return (name, table, event, columns, when, level, condition, tuple(actions))
-
-
-def offer(value):
-    """An action that offers a row to u."""
-    return ('offer', 'u', (value,))
 
 
 def some(table, *where):
@@ -365,13 +354,6 @@ class IsTableTest(unittest.TestCase):
                 kept = copy.deepcopy(found[1])
                 is_table(rules, line, found[1])
                 self.assertEqual(found[1], kept)
-
-
-def true_for_one(thing):
-    """A value with True and False in the place of 1 and 0."""
-    if isinstance(thing, (tuple, list)):
-        return thing.__class__([true_for_one(part) for part in thing])
-    return bool(thing) if thing in (0, 1) and isinstance(thing, int) else thing
 
 
 class FiringsTest(unittest.TestCase):

@@ -9,21 +9,15 @@ from firingrules.late import commit
 from firingrules.schemas import Schema
 from firingrules.transactions import transact
 from tests.chance import Chance
-from tests.support import small, told
+from tests.support import made, small, told
 from tests.worlds import idle, long_runs
 
-REFUSE = (('refuse',),)
 EMPTY = ((), ())
 NEW = ('insert', 't', (0, 1))
 OTHER = ('insert', 't', (1, 1))
 DELETE = ('delete', 't', ())
 ONE = (((0, 1),), ())
 TWO = (((0, 1), (1, 1)), ())
-
-
-def made(name, event='insert', actions=REFUSE, columns=(), when='behind', level='row', condition=(), table='t'):
-    """A rule."""
-    return (name, table, event, columns, when, level, condition, tuple(actions))
 
 
 def rules(*given):
