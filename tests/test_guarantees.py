@@ -28,6 +28,8 @@ class EndsTest(unittest.TestCase):
             chance = Chance(seed, two_tables())
             if seed % 2:
                 chance.part(2)
+            else:
+                chance.focus(1 + seed // 2 % 4)
             rules = chance.any_rules(chance.random.randint(1, 5))
             found = decide(rules, most=4000)
             if found[0] == 'ends':
