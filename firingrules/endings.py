@@ -43,14 +43,15 @@ class Endings:
                 step, ring = self.step(state)
                 if ring is not None:
                     return self.way(stack) + step.way_to_call(ring[0]) + self.search.way_of_ring(ring)
+                again = [one for one in step.states if one in behind]
+                if len(again) > 0:
+                    return self.way(stack + again[:1])
                 behind[state].extend([one for one in step.states if one not in self.ends])
                 if len(behind[state]) == 0:
                     self.put(state, step)
                     del behind[stack.pop()]
                     continue
             inner = behind[state].pop()
-            if inner in behind:
-                return self.way(stack + [inner])
             if inner not in self.ends:
                 stack.append(inner)
                 behind[inner] = []

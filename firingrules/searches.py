@@ -82,13 +82,14 @@ class Search:
             todo = within[stack[-1]]
             if len(todo) == 0:
                 todo.extend(self.unknown(stack[-1]))
+                again = [inner for inner in todo if inner in within]
+                if len(again) > 0:
+                    return stack + again[:1]
             if len(todo) == 0:
                 self.put(stack[-1])
                 del within[stack.pop()]
             else:
                 inner = todo.pop()
-                if inner in within:
-                    return stack + [inner]
                 if inner not in self.table:
                     stack.append(inner)
                     within[inner] = []
