@@ -153,13 +153,12 @@ class Hits:
                 return list(range(at + 1))
         return list(range(len(self.hits)))
 
-    def refusals(self):
-        """Return, for each hit at which a rule may refuse, the weight and the outcomes up to it."""
-        found = {}
+    def approaches(self):
+        """Return, for each hit to which runs come, the weight and the outcomes of the hits ahead of it."""
+        found = []
         weight, outcomes = 0, ()
         for at in self.come():
-            if REFUSED in self.outcomes[at]:
-                found[at] = (weight + self.outcomes[at][REFUSED], outcomes + (REFUSED,))
+            found.append((weight, outcomes))
             best = {}
             for _, outcome, more in self.parts(at):
                 keep(best, True, more, outcome)
@@ -167,14 +166,30 @@ class Hits:
                 weight, outcomes = weight + best[True][0], outcomes + (best[True][1],)
         return found
 
+    def refusals(self):
+        """Return, for each hit at which a rule may refuse, the weight and the outcomes up to it."""
+        found = {}
+        for at, (weight, outcomes) in enumerate(self.approaches()):
+            if REFUSED in self.outcomes[at]:
+                found[at] = (weight + self.outcomes[at][REFUSED], outcomes + (REFUSED,))
+        return found
+
     def fired_ahead(self):
-        """Return the list of the names of the rules that fire ahead of hits."""
-        found = []
+        """Return, for the name of each rule that fires ahead of hits, the index of such a hit and the moment."""
+        found = {}
         for at in self.come():
             place = self.tours[at].place
-            moments = self.tours[at].some_moments()
-            found.extend([place.names[one] for _, row, one in moments if place.turn(one, row).fires])
+            for moment in self.tours[at].some_moments():
+                _, row, one = moment
+                if place.turn(one, row).fires:
+                    found.setdefault(place.names[one], (at, moment))
         return found
+
+    def way_to_turn(self, at, moment):
+        """Return the turns up to one ahead of a hit."""
+        _, outcomes = self.approaches()[at]
+        _, more = self.tours[at].way_to_turn(moment)
+        return self.way(outcomes) + more
 
     def way(self, outcomes):
         """Return the list of the turns by which the first hits have these outcomes."""

@@ -1,7 +1,12 @@
-"""The order of databases and starts, and the first ones of all."""
+"""The statements and starts that are asked for, the order of databases and starts, and the first ones of all."""
 
 from firingrules.schemas import power, rank
 from firingrules.statements import single
+
+
+def chosen(schema, statements):
+    """Return the ascending list of the statements that are asked for."""
+    return single(schema) if statements is None else sorted(statements)
 
 
 def start_rank(start):

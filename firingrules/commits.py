@@ -24,10 +24,14 @@ class Commit(Machine):
         while self.stopped is None and len(self.frames) == 0 and self.at is not None:
             if len(self.looks) > 0:
                 old, new = self.looks.pop(0)
-                self.look(self.late[self.at], old, new, None)
+                self.look(self.late[self.at], old, new, self.cause_of(old, new))
             else:
                 self.come((self.database, bases_behind(self.rules, self.state, self.at)))
             super().advance()
+
+    def cause_of(self, old, new):
+        """Return the number of the step that a look names as its cause; it is told where there are steps ahead."""
+        return None
 
     def come(self, state):
         """Come to the state behind the turn of a late rule."""

@@ -42,7 +42,7 @@ class Endings:
             if len(behind[state]) == 0:
                 step, ring = self.step(state)
                 if ring is not None:
-                    return self.way(stack) + step.way_to_call(ring[0]) + self.search.way_of_ring(ring)
+                    return self.way(stack) + step.way_to_call(ring[0]) + self.search.way_through(ring)
                 again = [one for one in step.states if one in behind]
                 if len(again) > 0:
                     return self.way(stack + again[:1])

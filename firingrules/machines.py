@@ -44,16 +44,16 @@ class Machine:
     """One run of calls, one after another, over a database.
 
     stopped is None, or tells that a call is refused or has begun within itself;
-    then the run does not go on.
+    then the run does not go on. Its steps stand behind those that it is given.
     """
 
-    def __init__(self, rules, database):
+    def __init__(self, rules, database, steps=()):
         self.rules = rules
         self.schema = rules.schema
         self.database = database
         self.frames = []
         self.begun = {}
-        self.steps = []
+        self.steps = list(steps)
         self.turns = 0
         self.stopped = None
 
@@ -189,16 +189,16 @@ class Machine:
             frame.new = row
 
 
-def started(rules, statement, database):
-    """Return the machine of a run of a call, up to its first turn."""
-    machine = Machine(rules, database)
+def started(rules, statement, database, steps=()):
+    """Return the machine of a run of a call, up to its first turn; its steps stand behind these."""
+    machine = Machine(rules, database, steps)
     machine.begin(statement, None)
     machine.advance()
     return machine
 
 
 def finish(machine, limit):
-    """Let the first rule that may always have its turn, until the run is over."""
+    """Let the first rule that may always have its turn, until the run is over; without a limit if it is None."""
     free = machine.free()
     while len(free) > 0:
         if machine.turns == limit:

@@ -256,14 +256,20 @@ class Tour:
         """Return the first state, and the turns of the way to a state behind the place."""
         return self.way(self.full, state, None)
 
-    def way_to_stop(self, moment, word):
-        """Return the first state, and the turns up to the one that ends the place with a word."""
+    def way_to_turn(self, moment):
+        """Return the first state, and the turns up to the one of a moment, without what is done in it."""
         had, state, at = moment
         first, told = self.way(had, state, at)
-        return (first, told + self.place.told(at, self.place.turn(at, state).stops[word][1]))
+        return (first, told + [self.place.names[at]])
+
+    def way_to_stop(self, moment, word):
+        """Return the first state, and the turns up to the one that ends the place with a word."""
+        _, state, at = moment
+        first, told = self.way_to_turn(moment)
+        return (first, told + list(self.place.turn(at, state).stops[word][1]))
 
     def way_to_call(self, moment, call):
         """Return the first state, and the turns up to the beginning of a call."""
-        had, state, at = moment
-        first, told = self.way(had, state, at)
-        return (first, told + self.place.told(at, self.place.turn(at, state).calls[call]))
+        _, state, at = moment
+        first, told = self.way_to_turn(moment)
+        return (first, told + list(self.place.turn(at, state).calls[call]))

@@ -104,7 +104,7 @@ class Search:
             ring = self.settle(start)
             if ring is not None:
                 Spread(self.rules, self.table, self.most).spread_to([start])
-                return start + (self.turns_of(self.way_of_ring(ring)),)
+                return start + (self.turns_of(self.way_through(ring)),)
         return None
 
     def unknown(self, call):
@@ -133,12 +133,12 @@ class Search:
         lists = Lists(self.rules, self.table, self.worth)
         return tuple([lists.turn_list([(call, ends[at])]) for _, at in best[:2]])
 
-    def way_of_ring(self, ring):
-        """Return the way by which the calls of a ring begin, within the first one."""
+    def way_through(self, calls):
+        """Return the way by which calls begin, each within the one ahead of it, up to the last one."""
         lists = Lists(self.rules, self.table, self.worth)
         way = []
-        for at in range(len(ring) - 1):
-            way.extend(lists.walk(ring[at]).way_to_call(ring[at + 1]))
+        for at in range(len(calls) - 1):
+            way.extend(lists.walk(calls[at]).way_to_call(calls[at + 1]))
         return way
 
     def turns_of(self, way):

@@ -1,21 +1,21 @@
 """Tables of calls: whether all runs end, with which ends, and with how many firings."""
 
-from firingrules.beginnings import asked
+from firingrules.beginnings import asked, chosen
 from firingrules.errors import TooMany
 from firingrules.searches import FIRINGS, NONE, SHORT, Search, weights_of
-from firingrules.statements import is_statement, single
+from firingrules.statements import is_statement
 from firingrules.walks import Walk, ascending
 from firingrules.words import is_integer
 
 
 def starts(schema, statements=None, *, most=1000):
     """Return the list of all tuples of a statement and a database, in their order."""
-    chosen = single(schema) if statements is None else sorted(statements)
-    if len(chosen) * schema.many > most:
+    given = chosen(schema, statements)
+    if len(given) * schema.many > most:
         raise TooMany(most)
-    if len(chosen) == 0:
+    if len(given) == 0:
         return []
-    return [(statement, database) for database in schema.databases(most=most) for statement in chosen]
+    return [(statement, database) for database in schema.databases(most=most) for statement in given]
 
 
 def decide(rules, starts=None, *, most=1000):

@@ -30,7 +30,9 @@ class Walk:
     """All runs of a call, without those of the calls within it.
 
     ends has the ends, each with its weight and the way to it; calls the calls
-    that begin, and fired the names of the rules that fire. What they are hangs on
+    that begin, and fired the names of the rules that fire, each with where it does: a
+    tuple (index of the hit, moment) ahead of rows, (changes, index of the place, moment)
+    behind them. What they are hangs on
     the table that explore is given: it tells the ends of the calls within. A way is
     a list of names of rules, at their turns, and of pairs (call, end) within.
     """
@@ -62,8 +64,7 @@ class Walk:
         if self.found is None:
             self.ends[None] = (0, ("ahead", ()))
             return
-        for name in self.found.fired_ahead():
-            self.fired[name] = True
+        self.fired = self.found.fired_ahead()
         refusals = self.found.refusals()
         for at in refusals:
             keep(self.ends, None, refusals[at][0], ("ahead", refusals[at][1]))
@@ -112,7 +113,7 @@ class Walk:
         _, state, one = moment
         turn = place.turn(one, state)
         if turn.fires:
-            self.fired[place.names[one]] = True
+            self.fired.setdefault(place.names[one], (changed, at, moment))
         for call in turn.calls:
             if call not in self.calls:
                 self.calls[call] = (changed, at, moment)
@@ -143,4 +144,14 @@ class Walk:
         changed, at, moment = self.calls[call]
         tours = self.tours_behind(changed)
         state, more = tours[at].way_to_call(moment, call)
+        return self.way_behind(changed, tours[:at], state) + more
+
+    def way_to_firing(self, name):
+        """Return the way to a turn in which the rule of a name fires, without what is done in it."""
+        where = self.fired[name]
+        if len(where) == 2:
+            return self.found.way_to_turn(where[0], where[1])
+        changed, at, moment = where
+        tours = self.tours_behind(changed)
+        state, more = tours[at].way_to_turn(moment)
         return self.way_behind(changed, tours[:at], state) + more

@@ -223,8 +223,17 @@ class NaiveCommit(Naive):
         self.turns.append(rule[0])
         self.bases[at] = self.database[self.schema.names.index(rule[1])]
         for old, new in looks if rule[5] == 'row' else [(None, None)]:
-            self.look(rule, old, new, None)
+            self.look(rule, old, new, self.cause_of(rule, (old, new) if rule[5] == 'row' else looks[0]))
         return True
+
+    def cause_of(self, rule, pair):
+        """The number of the last step that changes the row with the key of a pair (old, new)."""
+        many = self.schema.key_count(rule[1])
+        key = [row for row in pair if row is not None][0][:many]
+        numbers = [at for at, step in enumerate(self.steps) if step[0] == 'change' and step[2] == rule[1]
+                   and key in [row[:many] for row in step[3:] if row is not None]]
+        # A commit without its statements has no steps ahead of it.
+        return numbers[-1] if numbers else None
 
     def commit(self):
         """Go on until no rule waits."""
@@ -244,6 +253,25 @@ def commit_outcome(naive, beginning, now):
     except (Within, NoEnd, Limit, Again) as error:
         return (error.__class__.__name__,)
     return ('end', naive.database)
+
+
+def transaction(rules, database, statements, limit):
+    """The steps of a transaction and its end, or the name of what else comes of a run."""
+    steps, now = [], database
+    for statement in statements:
+        naive = Naive(rules, lambda options: options[0], limit=limit)
+        naive.steps = list(steps)
+        found = outcome(naive, statement, now)
+        if found[0] != 'end':
+            return found[0], None
+        steps = steps + [('call', None, statement)] if found[1] is None else naive.steps
+        now = now if found[1] is None else found[1]
+    naive = NaiveCommit(rules, lambda options: options[0], limit=limit)
+    naive.steps = list(steps)
+    found = commit_outcome(naive, database, now)
+    if found[0] != 'end':
+        return found[0], None
+    return (steps if found[1] is None else naive.steps), found[1]
 
 
 def step_outcome(naive, state, _):

@@ -63,3 +63,27 @@ def long_runs(rows, firing, still, more=()):
     given += [idle(LETTERS[firing + at], 'c', 'delete') for at in range(still)]
     call = (('delete', 'b', ()), (tuple(schema.rows('b')[:rows]), ()))
     return Rules(schema, given + list(more)), call
+
+
+TOWER = [('insert', 't', (0, 1)), ('delete', 't', (('k', 1),)), ('delete', 'u', (('k', 1),)),
+         ('update', 't', (('k', 1),), (('k', 1),)), ('update', 'u', (('k', 1),), (('k', 1),)), ('offer', 'u', (0,))]
+
+
+def tower(more=(), when='behind'):
+    """Rules of the small schema by which an insert into t has exactly 4,000 turns, and more of them.
+
+    Level by level each rule writes the statement of the next one several times, or is idle, with 0.
+    With when late it is the commit that has them.
+    """
+    given = []
+    for (kind, table), writes in zip([statement[:2] for statement in TOWER], [[3], [2, 3, 0], [3, 3], [3, 3], [3], [0, 0]]):
+        event = {'offer': 'insert'}.get(kind, kind)
+        for many in writes:
+            name, after = LETTERS[len(given)], TOWER[[one[:2] for one in TOWER].index((kind, table)):][1:2]
+            time = when if event == 'insert' and table == 't' else 'behind'
+            if many:
+                given.append((name, table, event, (), time, 'statement', (), tuple(after * many)))
+            else:
+                given.append(idle(name, table, event, when=time))
+    schema = Schema(2, [('t', ('k', 'v'), 1), ('u', ('k',), 1)])
+    return Rules(schema, given + list(more))
