@@ -22,10 +22,10 @@ class Chronicle(Commit):
     changed has for each table and key the number of the last step that changes a row with it.
     """
 
-    def __init__(self, rules, beginning, now, steps):
+    def __init__(self, rules, beginning, now, line):
         Commit.__init__(self, rules, beginning, now)
         self.changed = {}
-        for step in steps:
+        for step in line:
             self.note(step)
 
     def note(self, step):
@@ -46,18 +46,18 @@ class Chronicle(Commit):
 
 def told(rules, database, statements, limit):
     """Return the steps of a transaction, and the database behind it, or None if it is undone."""
-    steps_told, now = [], database
+    line, now = [], database
     for statement in statements:
-        machine = started(rules, statement, now, steps_told)
+        machine = started(rules, statement, now, line)
         finish(machine, limit)
         if end_of(machine) is None:
-            steps_told.append(("call", None, statement))
+            line.append(("call", None, statement))
         else:
-            steps_told, now = machine.steps, machine.database
-    machine = Chronicle(rules, database, now, steps_told)
+            line, now = machine.steps, machine.database
+    machine = Chronicle(rules, database, now, line)
     finish(machine, limit)
     end = end_of(machine)
-    return (steps_told if end is None else machine.steps, end)
+    return (line if end is None else machine.steps, end)
 
 
 def steps(rules, database, statements, *, limit=400):

@@ -189,7 +189,7 @@ class AgreeTest(unittest.TestCase):
 
     def test_by_going_through_all_lists(self):
         seen = {}
-        for seed in range(900):
+        for seed in range(600):
             tables = [[('t', ('k', 'v'), 1)], [('t', ('k', 'v'), 1)], [('t', ('k',), 1), ('u', ('a',), 1)]][seed % 3]
             chance = Chance(seed, Schema(2, tables))
             chance.focus(chance.random.randint(1, 3))

@@ -13,7 +13,7 @@ class ExamplesTest(unittest.TestCase):
     def test_they_come_out_as_they_stand_there(self):
         failed, tried = doctest.testfile('examples.txt')
         self.assertEqual(failed, 0)
-        self.assertEqual(tried, 50)
+        self.assertEqual(tried, 67)
 
 
 if __name__ == '__main__':

@@ -1,9 +1,15 @@
-"""[5], [6], [7], [8], [12], [13]: what holds for all rules, by worlds of few values."""
+"""[5], [6], [7], [8], [12], [13]: what holds for all rules, by worlds of few values.
+
+[9] and [10] stand in test_orders, [11] in test_transactions, [14] in test_references, [15] in test_remade.
+"""
 
 import unittest
 
+from firingrules.agree import agree, alike
 from firingrules.bodies import body
+from firingrules.causes import needed, steps, why
 from firingrules.late import commit, decide_commits
+from firingrules.never import fires
 from firingrules.orders import least
 from firingrules.ruleset import Rules
 from firingrules.runs import play, run, trace
@@ -32,10 +38,20 @@ class EndsTest(unittest.TestCase):
                 chance.focus(1 + seed // 2 % 4)
             rules = chance.any_rules(chance.random.randint(1, 5))
             found = decide(rules, most=4000)
+            name = rules.names[0]
+            fired = fires(rules, name, most=4000)
             if found[0] == 'ends':
                 self.assertIs(is_table(rules, starts(rules.schema), found[1]), True)
+                self.assertIn(fired[0], ('never', 'fires'))
+                if fired[0] == 'never':
+                    self.assertEqual(fired[1], found[1])
+                    if rules[name][4:6] != ('ahead', 'statement'):
+                        self.assertEqual(alike(rules, rules - name, most=4000)[0], 'alike')
+                else:
+                    self.assertEqual(fired[3][-1], name)
             else:
                 self.assertEqual(play(rules, *found[1:]), ('endless',))
+                self.assertEqual(fired, found)
             if levels(rules)[0] == 'levels':
                 self.assertEqual(found[0], 'ends')
             seen[found[0], levels(rules)[0]] = True
@@ -136,12 +152,28 @@ class AtOnceOrLateTest(unittest.TestCase):
             changed += found != plain
         self.assertGreater(changed, 100)
 
+    def test_only_lists_of_several_statements_part_them(self):
+        seen = {}
+        for seed in range(120):
+            chance = Chance(seed, Schema(2, [('t', ('k', 'v'), 1), ('u', ('a', 'x'), 1)]))
+            behind, late = [Rules(chance.schema, [rule]) for rule in self.plain_rule(chance, ('behind', 'late'))]
+            own = [chance.statement(*behind.rules[0][1:3]) for _ in range(2)] + [chance.any_statement()]
+            statements = sorted({one for one in own if one[0] != 'update' or {'k', 'a'} & set(dict(one[3])) == set()})
+            found = agree(behind, late, statements)
+            if found[0] == 'parted':
+                self.assertGreater(len(found[2]), 1)
+            seen[found[0]] = True
+        self.assertEqual(set(seen), {'agree', 'parted'})
+
     def test_two_statements_may_tell_something_else(self):
         schema = two_tables()
         rule = ('copy', 't', 'insert', (), 'behind', 'row', (), (('offer', 'u', (('new', 'k'),)),))
         deeds = [('insert', 't', (0, 1)), ('delete', 't', ())]
-        found = [transact(Rules(schema, [rule[:4] + (when,) + rule[5:]]), schema.empty, deeds) for when in ('behind', 'late')]
+        both = [Rules(schema, [rule[:4] + (when,) + rule[5:]]) for when in ('behind', 'late')]
+        found = [transact(side, schema.empty, deeds) for side in both]
         self.assertEqual(found, [(['done'] * 3, ((), ((0,),))), (['done'] * 3, ((), ()))])
+        self.assertEqual(agree(*both, deeds), ('parted', schema.empty, deeds))
+        self.assertEqual(agree(*both, deeds[:1])[0], 'agree')
 
 
 class Renamed:
@@ -207,6 +239,8 @@ class CopiedValuesTest(unittest.TestCase):
             self.assertEqual(other.steps(found[1]), wanted[1])
             turns = [step[2] for step in found[1] if step[0] == 'turn']
             self.assertEqual(play(renamed, other.put(statement), other.put(one), other.put(turns))[0], 'end')
+        self.check_causes(other, same, one, [statement, chance.any_statement()])
+        self.check_firings(other, same, rules, (statement, one))
         found, wanted = same(decide, [(statement, one)])
         self.assertEqual(found[1][0], wanted[1][0])
         if found[1][0] == 'ends':
@@ -223,6 +257,32 @@ class CopiedValuesTest(unittest.TestCase):
         if found[1][0] == 'ends':
             self.check_tables(other, found[1][1], wanted[1][1])
             self.check_tables(other, found[1][2], wanted[1][2])
+
+    def check_causes(self, other, same, database, statements):
+        """Check that steps, their causes and what is needed are the same, with other values and names."""
+        found, wanted = same(steps, database, statements, limit=30)
+        if found[0] == 'returned':
+            self.assertEqual(other.steps(found[1]), wanted[1])
+            for key in ((0,), (1,)):
+                found, wanted = same(why, database, statements, 't', key, limit=30)
+                self.assertEqual(other.steps(found[1]), wanted[1])
+                found, wanted = same(needed, database, statements, 't', key, limit=30)
+                self.assertEqual(sorted([tuple(sorted(names)) for names in other.put(found[1])]), wanted[1])
+
+    def check_firings(self, other, same, rules, start):
+        """Check that a rule fires or not, and that two sets of rules are alike or not, with other values and names."""
+        rule = rules.rules[0]
+        if rule[4] != 'late' and rule[4:6] != ('ahead', 'statement'):
+            found, wanted = same(fires, rule[0], [start])
+            self.assertEqual(found[1][0], wanted[1][0])
+            if found[1][0] == 'fires':
+                self.assertEqual(other.put(found[1][1:3]), wanted[1][1:3])
+        less = rules - rule[0]
+        found = alike(rules, less, [start])
+        wanted = alike(other.rules(rules), other.rules(less), [other.put(start)])
+        self.assertEqual(found[0], wanted[0])
+        if found[0] == 'parted':
+            self.assertEqual(other.put(found[1:3]), wanted[1:3])
 
     def check_tables(self, other, rows, wanted):
         """Check that tables of calls or states are the same, with other values and names."""

@@ -24,10 +24,23 @@ FUNCTIONS = {
              'commit(rules, beginning, now, *, limit=400)', 'play_commit(rules, beginning, now, turns)',
              'decide_commits(rules, begun, *, most=1000)', 'is_commits(rules, begun, table, thing)'],
     'transactions': ['transact(rules, database, deeds, *, limit=400)'],
+    'agree': ['agree(one, other, statements=None, *, most=1000)', 'is_agreement(one, other, statements, thing)',
+              'alike(one, other, starts=None, *, most=1000)'],
+    'causes': ['steps(rules, database, statements, *, limit=400)',
+               'why(rules, database, statements, table, key, *, limit=400)',
+               'needed(rules, database, statements, table, key, *, limit=400)'],
+    'never': ['fires(rules, name, starts=None, *, most=1000)'],
+    'references': ['cascade(schema, reference)', 'guard(schema, reference)', 'bars(schema, reference)',
+                   'fits(schema, references, database)', 'fitting(schema, references, database)'],
+    'remade': ['split(rules, name, names)', 'timed(rules, name, when)'],
+    'notation': ['show_statement(statement)', 'show_rule(rule)', 'read_statement(schema, text)',
+                 'read_rule(schema, text)'],
 }
 CLASSES = {
     'schemas': ['Schema(size, tables)'],
     'ruleset': ['Rules(schema, rules, pairs=())'],
+    'books': ['Book(rules, database)'],
+    'desk': ['Desk(schema)'],
     'errors': ['Wrong(place)', 'Twice(name)', 'BadTable(at)', 'BadRule(at)', 'BadPair(at)', 'Ring(members)',
                'NoRule(name)', 'TooMany(limit)', 'Stopped(at)', 'NoSave(name)', 'NoEntry(at)'],
 }
@@ -35,9 +48,14 @@ METHODS = {
     'Schema': ['columns(self, name)', 'key_count(self, name)', 'is_row(self, name, thing)', 'rows(self, name)',
                'is_content(self, name, thing)', 'is_database(self, thing)', 'databases(self, *, most=1000)'],
     'Rules': ['ordered(self, pairs)', 'by_name(self)', 'competing(self)'],
+    'Book': ['do(self, deed)', 'undo(self)', 'redo(self)', 'before(self, at, deed)', 'until(self, index)',
+             'branch(self)'],
+    'Desk': ['execute(self, line)'],
 }
 SIGNS = {'Schema': ['__eq__', '__len__', '__contains__'],
-         'Rules': ['__eq__', '__len__', '__contains__', '__getitem__', '__add__', '__sub__']}
+         'Rules': ['__eq__', '__len__', '__contains__', '__getitem__', '__add__', '__sub__'],
+         'Book': ['__len__'], 'Desk': []}
+PLACES = {'Schema': 'schemas', 'Rules': 'ruleset', 'Book': 'books', 'Desk': 'desk'}
 
 
 def found(module, name):
@@ -66,7 +84,7 @@ class InterfaceTest(unittest.TestCase):
 
     def test_methods(self):
         for name, methods in METHODS.items():
-            own = vars(found('schemas' if name == 'Schema' else 'ruleset', name))
+            own = vars(found(PLACES[name], name))
             for line in methods:
                 method = own[line.split('(')[0]]
                 self.assertEqual(line.split('(')[0] + str(inspect.signature(method)), line)
