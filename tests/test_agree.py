@@ -145,6 +145,14 @@ class AgreeTest(unittest.TestCase):
         self.assertEqual(agree(one, rules(), [more, DELETE]), ('parted', (((0, 1),), ()), [DELETE]))
         self.assertEqual(agree(one, rules(), [more]), ('parted', (((1, 1),), ()), [more]))
 
+    def test_the_statements_of_a_longer_list_in_their_order(self):
+        new, last = ('insert', 'u', (0,)), ('delete', 't', (('k', 0),))
+        one = rules(made('a', 'delete', [('delete', 'u', ())], condition=(('some', 'u', ()),)))
+        for some in ([NEW, new, last], [last, new, NEW]):
+            self.assertEqual(agree(one, rules(), some), ('parted', EMPTY, [NEW, new, last]))
+        twice = rules(made('a', 'delete', [offer(1)], condition=(('some', 'u', ()), ('some', 't', ()))))
+        self.assertEqual(agree(twice, rules(), [OTHER, new, last, NEW]), ('parted', EMPTY, [NEW, OTHER, new, last]))
+
     def test_statements_in_any_order_and_left_out(self):
         one = rules(made('a', 'delete', [offer(1)], condition=(('same', ('old', 'v'), 1),)))
         some = [OTHER, DELETE, NEW, ('insert', 'u', (0,)), ('update', 't', (), (('v', 1),))]
